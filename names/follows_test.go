@@ -94,7 +94,23 @@ func (p pair) do(t *testing.T, did string, c call) {
 	}
 }
 
-// Each row of these calls, of a tree of five nodes and one block; a copy of it at each place of the row stays as it is there.
+// rows has copies do each row of so many of these calls. What follows holds at each place of a row, and what is there stays as it is.
+func (p pair) rows(t *testing.T, did string, all []call, left int) {
+	t.Helper()
+	if left == 0 {
+		return
+	}
+	for _, c := range all {
+		next := p.copied()
+		next.do(t, did, c)
+		next.check(t, did+"; "+c.String())
+		holds(t, next.f, len(next.m.things))
+		next.rows(t, did+"; "+c.String(), all, left-1)
+	}
+	p.check(t, did+", with all that its copies did")
+}
+
+// Each row of these calls, of a tree of five nodes and one block.
 func TestRows(t *testing.T) {
 	kind := func(name string) int { return slices.Index(calls, name) }
 	all := []call{
@@ -114,20 +130,7 @@ func TestRows(t *testing.T) {
 		{kind: kind("Hold"), dir: 2},
 		{kind: kind("Loose"), dir: 2},
 	}
-	var row func(p pair, did string, left int)
-	row = func(p pair, did string, left int) {
-		if left == 0 {
-			return
-		}
-		for _, c := range all {
-			next := p.copied()
-			next.do(t, did, c)
-			next.check(t, did+"; "+c.String())
-			row(next, did+"; "+c.String(), left-1)
-		}
-		p.check(t, did+", with all that its copies did")
-	}
-	row(newPair(t, 5, 1), "new", 4)
+	newPair(t, 5, 1).rows(t, "new", all, 4)
 }
 
 // anyPath is a path of few names, which often lead somewhere, with all that a path may have.

@@ -20,10 +20,11 @@ type model struct {
 
 // thing is a node.
 type thing struct {
-	kind, users, parent int
-	names               []entry // of a directory, in whatever order they came
-	data                []byte
-	has                 [api.MaxFile]bool // which parts have a block
+	kind, users int
+	parent      *thing  // of a directory; itself, not its number, which may be another one's later
+	names       []entry // of a directory, in whatever order they came
+	data        []byte
+	has         [api.MaxFile]bool // which parts have a block
 }
 
 type entry struct {
@@ -33,7 +34,8 @@ type entry struct {
 
 func newModel(nodes, blocks int) *model {
 	m := &model{things: make([]*thing, nodes), blocks: blocks}
-	m.things[0] = &thing{kind: inodes.Dir, parent: 1}
+	m.things[0] = &thing{kind: inodes.Dir}
+	m.things[0].parent = m.things[0]
 	return m
 }
 
@@ -46,7 +48,22 @@ func (m *model) copied() *model {
 			c.things[i] = &of
 		}
 	}
+	for _, x := range c.things {
+		if x != nil && m.number(x.parent) > 0 {
+			x.parent = c.of(m.number(x.parent))
+		}
+	}
 	return c
+}
+
+// number is a thing's number; 0 of one that is no more.
+func (m *model) number(x *thing) int {
+	for i, y := range m.things {
+		if x != nil && x == y {
+			return i + 1
+		}
+	}
+	return 0
 }
 
 func (m *model) of(i int) *thing {
@@ -142,7 +159,9 @@ func (m *model) walk(dir int, path string, follow bool) (int, api.Errno) {
 			continue
 		}
 		if part == ".." {
-			at = m.of(at).parent
+			if at = m.number(m.of(at).parent); at == 0 {
+				return 0, api.ErrNoDir
+			}
 			continue
 		}
 		if len(part) > 32 {
@@ -228,7 +247,7 @@ func (m *model) add(dir int, path string, kind int, text string) (int, api.Errno
 	if i < 0 {
 		return 0, api.ErrNodes
 	}
-	x := &thing{kind: kind, parent: at, data: []byte(text)}
+	x := &thing{kind: kind, parent: m.of(at), data: []byte(text)}
 	need := (len(text) + 63) / 64
 	if _, blocks := m.free(); need > blocks {
 		return 0, api.ErrSpace
@@ -331,7 +350,7 @@ func (m *model) rename(dir int, from, to string) api.Errno {
 	m.drop(at, name)
 	m.of(at2).names = append(m.of(at2).names, entry{name2, n})
 	if is {
-		m.of(n).parent = at2
+		m.of(n).parent = m.of(at2)
 	}
 	return api.OK
 }
@@ -452,7 +471,8 @@ func (m *model) shown() string {
 		case inodes.Link:
 			fmt.Fprintf(&out, ", says %q, 0", x.data)
 		case inodes.Dir:
-			fmt.Fprintf(&out, ", in %d, 0", x.parent)
+			up, e := m.walk(i, "..", true)
+			fmt.Fprintf(&out, ", in %d, %d", up, int(e))
 			l := slices.Clone(x.names)
 			sort.Slice(l, func(i, j int) bool { return l[i].name < l[j].name })
 			for _, y := range l {

@@ -294,25 +294,6 @@ func TestHoldDirectoryRenamedOver(t *testing.T) {
 	none(t, f, e, api.ErrNone)
 }
 
-// What a directory without a name stood in may be no more, too: there is nothing to walk in.
-func TestParentGone(t *testing.T) {
-	f := made(t, 5, 1)
-	file(t, f, 1, "g")
-	a := mkdir(t, f, 1, "a")
-	b := mkdir(t, f, 1, "a/b")
-	does(t, "Hold", f.Hold(b), api.OK)
-	does(t, "Rmdir", f.Rmdir(1, "a/b"), api.OK)
-	does(t, "Rmdir", f.Rmdir(1, "a"), api.OK)
-	none(t, f, a, api.ErrNone)
-	// No error is named for that: `..` leads to where it stood, though nothing is there.
-	both(t, f, b, "..", a, api.OK)
-	for _, path := range []string{"../", "../.", "../..", "../g", "../../g"} {
-		both(t, f, b, path, 0, api.ErrNoDir)
-	}
-	refused(t, f, api.ErrNoDir, "no parent", places(f, b, "../g")...)
-	both(t, f, b, "/g", node(t, f, "g"), api.OK)
-}
-
 // The root has a name that nobody takes away.
 func TestHoldRoot(t *testing.T) {
 	f := made(t, 2, 1)

@@ -11,9 +11,12 @@ import (
 // root is the number of the root: of a table's first node.
 const root = 1
 
+// nowhere is the parent of a directory whose parent is no more. No node has that number.
+const nowhere = 0
+
 // directory is what a node of kind Dir has beside what the table knows of it.
 type directory struct {
-	parent int // where it stands, or stood last, if it has no name any more
+	parent int // where it stands, or stood last, if it has no name any more; nowhere, once that is no more
 	names  map[string]int
 }
 
@@ -83,6 +86,15 @@ func (n *nodes) move(node, parent int) {
 	n.dirs[node] = directory{parent: parent, names: n.dirs[node].names}
 }
 
+// above is the parent of a directory, of which one without a name may have none any more.
+func (n *nodes) above(dir int) (int, api.Errno) {
+	parent := n.dirs[dir].parent
+	if parent == nowhere {
+		return 0, api.ErrNoDir
+	}
+	return parent, api.OK
+}
+
 // within says whether a directory that has a name is another one, or stands below it.
 func (n *nodes) within(dir, top int) bool {
 	for dir != top && dir != root {
@@ -110,10 +122,17 @@ func (n *nodes) untie(at place, node int) {
 	n.forget(node)
 }
 
-// forget drops what a directory had, once it is no more.
+// forget drops what a directory had, once it is no more. What stood in it stands nowhere then:
+// its number leads to no node any more, and may be another node's later.
 func (n *nodes) forget(node int) {
-	if n.table.Kind(node) == 0 {
-		delete(n.dirs, node)
+	if _, was := n.dirs[node]; !was || n.isDir(node) {
+		return
+	}
+	delete(n.dirs, node)
+	for _, dir := range slices.Sorted(maps.Keys(n.dirs)) {
+		if n.dirs[dir].parent == node {
+			n.move(dir, nowhere)
+		}
 	}
 }
 

@@ -53,7 +53,7 @@ func (w *walk) step(at int, part string, follow bool) (int, api.Errno) {
 	case "", ".":
 		return at, api.OK
 	case "..":
-		return w.dirs[at].parent, api.OK
+		return w.above(at)
 	}
 	if len(part) > api.MaxName {
 		return 0, api.ErrBig
