@@ -189,7 +189,7 @@ func TestWriteNothing(t *testing.T) {
 	held(t, f, n, 2)
 }
 
-// Only a part is written where no block is left; where none of it is, nothing changes, not even the place.
+// Only a part is written where no block is left; where none of it is, nothing changes, but that one that appends is at the end.
 func TestWriteRunsOut(t *testing.T) {
 	for blocks := 1; blocks <= 4; blocks++ {
 		for _, ahead := range []int{0, 1, 62, 63} {
@@ -203,10 +203,18 @@ func TestWriteRunsOut(t *testing.T) {
 				noWrite(t, f, o, "c", api.ErrSpace)
 				noWrite(t, f, o, strings.Repeat("c", top+1), api.ErrSpace)
 				writes(t, o, "", 0, blocks*part)
-				// One that appends is not at the end yet, and does not come to it by an error.
+				// One that is not at the end yet: with Append it comes to it, error or not; without, it stays.
 				reads(t, p, 1, want[:1])
-				noWrite(t, f, p, "c", api.ErrSpace)
-				reads(t, p, 1, want[1:2])
+				noAppend(t, f, p, "c", api.ErrSpace, blocks*part)
+				reads(t, p, 9, "")
+				noAppend(t, f, p, "c", api.ErrSpace, blocks*part)
+				q := open(t, f, "f", r|w)
+				does(t, "Cut", f.Cut(n, blocks*part+2*part), api.OK)
+				reads(t, q, blocks*part, want)
+				noWrite(t, f, q, "c", api.ErrSpace)
+				noAppend(t, f, p, "c", api.ErrSpace, blocks*part+2*part)
+				does(t, "Cut", f.Cut(n, blocks*part), api.OK)
+				does(t, "Close", q.Close(), api.OK)
 				contains(t, f, n, want)
 				free(t, f, 1, 0)
 				does(t, "Cut", f.Cut(n, ahead), api.OK)
@@ -221,8 +229,7 @@ func TestWriteBig(t *testing.T) {
 	o, p := open(t, f, "f", r|w), open(t, f, "f", w|a)
 	writes(t, o, strings.Repeat("a", top+1), top, top)
 	noWrite(t, f, o, "b", api.ErrBig)
-	noWrite(t, f, p, "b", api.ErrBig)
-	at(t, p, 0)
+	noAppend(t, f, p, "b", api.ErrBig, top)
 	writes(t, o, "", 0, top)
 	writes(t, p, "", 0, top)
 	noWrite(t, f, p, "b", api.ErrBig)
@@ -231,6 +238,44 @@ func TestWriteBig(t *testing.T) {
 	does(t, "Cut", f.Cut(n, top-2), api.OK)
 	writes(t, p, "bcd", 2, top)
 	noWrite(t, f, o, "e", api.ErrBig)
+}
+
+// With Append the place is the end ahead of Write's error, whether it was ahead of it or behind; and a Read goes on there.
+func TestAppendRefused(t *testing.T) {
+	f := made(t, 3, 1)
+	n := file(t, f, "f", strings.Repeat("a", part))
+	o := open(t, f, "f", r|w|a)
+	noAppend(t, f, o, "x", api.ErrSpace, part)
+	reads(t, o, 5, "")
+	does(t, "Cut", f.Cut(n, 3*part), api.OK)
+	reads(t, o, 5, "\x00\x00\x00\x00\x00")
+	noAppend(t, f, o, "x", api.ErrSpace, 3*part)
+	// The end is ahead of its place now, since the file was cut.
+	does(t, "Cut", f.Cut(n, part), api.OK)
+	noAppend(t, f, o, "xyz", api.ErrSpace, part)
+	does(t, "Cut", f.Cut(n, top), api.OK)
+	noAppend(t, f, o, "x", api.ErrBig, top)
+	does(t, "Cut", f.Cut(n, 2), api.OK)
+	at(t, o, top)
+	writes(t, o, "bc", 2, 4)
+	contains(t, f, n, "aabc")
+}
+
+// The errors that are told ahead of the place leave it as it is: of a file that was not opened to Write, and of one that is closed.
+func TestAppendNotTried(t *testing.T) {
+	for _, size := range []int{1, part, part + 1} {
+		f := made(t, 2, 2)
+		n := file(t, f, "f", strings.Repeat("a", size))
+		o, p := open(t, f, "f", r|a), open(t, f, "f", w|a)
+		noWrite(t, f, o, "x", api.ErrMode)
+		noWrite(t, f, o, "", api.ErrMode)
+		at(t, o, 0)
+		does(t, "Close", p.Close(), api.OK)
+		noWrite(t, f, p, "x", api.ErrFd)
+		noWrite(t, f, p, "", api.ErrFd)
+		at(t, p, 0)
+		contains(t, f, n, strings.Repeat("a", size))
+	}
 }
 
 // Any bytes.
@@ -309,20 +354,22 @@ func TestNotOpened(t *testing.T) {
 	}
 }
 
-// A node that somebody else let go is no more: names' errors, and it is closed even so.
+// A node that somebody else let go is no more: names' errors, and it is closed even so. It has no size that would be the place.
 func TestNodeGone(t *testing.T) {
-	f := some(t)
-	o := open(t, f, "f", r|w)
-	reads(t, o, 1, "o")
-	does(t, "Unlink", f.Unlink(1, "f"), api.OK)
-	does(t, "Loose", f.Loose(2), api.OK)
-	for range 2 {
-		noRead(t, f, o, 0, api.ErrNone)
-		noRead(t, f, o, 1, api.ErrNone)
-		noRead(t, f, o, -1, api.ErrNone)
-		noWrite(t, f, o, "a", api.ErrNone)
-		noWrite(t, f, o, "", api.ErrNone)
+	for _, flags := range []int{r | w, r | w | a} {
+		f := some(t)
+		o := open(t, f, "f", flags)
+		reads(t, o, 1, "o")
+		does(t, "Unlink", f.Unlink(1, "f"), api.OK)
+		does(t, "Loose", f.Loose(2), api.OK)
+		for range 2 {
+			noRead(t, f, o, 0, api.ErrNone)
+			noRead(t, f, o, 1, api.ErrNone)
+			noRead(t, f, o, -1, api.ErrNone)
+			noWrite(t, f, o, "a", api.ErrNone)
+			noWrite(t, f, o, "", api.ErrNone)
+		}
+		does(t, "Close", o.Close(), api.OK)
+		closed(t, f, o)
 	}
-	does(t, "Close", o.Close(), api.OK)
-	closed(t, f, o)
 }

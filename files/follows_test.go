@@ -190,10 +190,11 @@ func (m *model) write(u *user, data string) (int, api.Errno) {
 	case u.flags&2 == 0:
 		return 0, api.ErrMode
 	}
-	from, x := u.at, u.of
+	x := u.of
 	if u.flags&4 != 0 {
-		from = len(x.data)
+		u.at = len(x.data)
 	}
+	from := u.at
 	for i := range len(data) {
 		p, e := from+i, api.OK
 		if p >= top {

@@ -151,7 +151,7 @@ func at(t *testing.T, o *files.File, want int) {
 	}
 }
 
-// noRead and noWrite hold a call that answers an error, and changes nothing of the file and the tree.
+// noRead and noWrite hold a call that answers an error, and changes nothing of the file and the tree; noAppend one that comes to the end even so.
 func noRead(t *testing.T, f *names.FS, o *files.File, n int, wrong api.Errno) {
 	t.Helper()
 	same(t, f, o, fmt.Sprintf("Read(%d)", n), func() {
@@ -168,6 +168,17 @@ func noWrite(t *testing.T, f *names.FS, o *files.File, data string, wrong api.Er
 			t.Fatalf("Write(%.80q): %d, %d; want %d", data, n, int(e), int(wrong))
 		}
 	})
+}
+
+func noAppend(t *testing.T, f *names.FS, o *files.File, data string, wrong api.Errno, end int) {
+	t.Helper()
+	was, of := shown(f, 20), o.Node()
+	if n, e := o.Write(data); n != 0 || e != wrong {
+		t.Fatalf("Write(%.80q): %d, %d; want %d", data, n, int(e), int(wrong))
+	}
+	if now := shown(f, 20); now != was || o.At() != end || o.Node() != of {
+		t.Fatalf("Write(%.80q): at %d of %d, %s; want %d of %d, %s", data, o.At(), o.Node(), now, end, of, was)
+	}
 }
 
 // same holds that something changes nothing.
